@@ -1,0 +1,1 @@
+"""Seenshares: what a sampler sees of a program."""
