@@ -6,7 +6,10 @@ from pathlib import Path
 
 from seenshares.errors import BadProgram, BadShare
 from seenshares.programs import Place, Program
+from seenshares.runs import observe
+from seenshares.samplers import Sampler
 from seenshares.shares import Share
+from seenshares.states import first_states, reach, steps
 
 README = Path(__file__).parent.parent / "README.md"
 
@@ -37,6 +40,31 @@ class ProgramsTest(unittest.TestCase):
         with self.assertRaises(BadProgram) as caught:
             Program([Place("a")], {"a": ("b",)}, start="b")
         self.assertEqual(vars(caught.exception), {"why": "nexts"})
+
+
+class SamplersTest(unittest.TestCase):
+
+    def test_other_values(self):
+        other = Sampler(5, 2, phase=None).with_values(jitter=4)
+        self.assertEqual([other.period, other.jitter, other.phase], [5, 4, None])
+
+
+class RunsTest(unittest.TestCase):
+
+    def test_a_record(self):
+        web = Program([Place("a", 1, 2), Place("b", 1, 2, let=False)], {"a": ("b",), "b": ("a",)})
+        told = observe(web, Sampler(2), [("a", 1), ("b", 2), ("a", 1), ("b", 1)], [0, 0, 0])
+        self.assertEqual([told.ticks, told.times, told.notes, told.waiting, told.lost],
+                         [5, {"a": 2, "b": 3}, [(0, "a"), (3, "a")], True, 0])
+
+
+class StatesTest(unittest.TestCase):
+
+    def test_first_states_steps_and_reach(self):
+        web = Program([Place("a"), Place("b", let=False)], {"a": ("b",), "b": ("a",)})
+        told = [first_states(web, Sampler(3)), steps(web, Sampler(3), ("a", 1, 2, True, False)),
+                reach(web, Sampler(3))]
+        self.assertEqual(repr(told), "[[(('a', 1, 0, True, False), True)], [(('b', 1, 0, True, True), False)], 6]")
 
 
 class ReadmeTest(unittest.TestCase):

@@ -19,6 +19,9 @@ HOMES = {
                          "__ge__", "__neg__", "__abs__", "__str__", "over", "floor"]},
     "programs": {"Place": ["__init__", "__eq__"],
                  "Program": ["__init__", "__getitem__", "__contains__", "__len__", "__eq__", "with_let"]},
+    "samplers": {"Sampler": ["__init__", "__eq__", "with_values"]},
+    "runs": {"observe": [], "Record": ["__init__"], "times_of": [], "seen_of": []},
+    "states": {"first_states": [], "steps": [], "reached": [], "reach": []},
 }
 
 LIBRARY = {
@@ -30,6 +33,8 @@ BUILTINS = """len range enumerate zip min max sum abs sorted reversed int str bo
     ord repr any all divmod pow getattr hasattr setattr iter next map super property staticmethod classmethod
     Exception ValueError TypeError KeyError IndexError LookupError ZeroDivisionError ArithmeticError OverflowError
     RuntimeError NotImplementedError AttributeError StopIteration NotImplemented object""".split()
+# The name _ is bound there while an interactive example runs.
+HELD_NAMES = [name for name in dir(builtins) if name != "_"]
 METHODS = """append clear copy count endswith extend find get index insert isalnum isalpha isdigit islower isspace
     isupper items join keys ljust lower lstrip partition pop remove replace reverse rfind rjust rpartition rsplit
     rstrip setdefault split splitlines startswith strip update upper values zfill bit_length title capitalize swapcase
@@ -139,12 +144,54 @@ class LanguageTest(unittest.TestCase):
 
     def test_builtins(self):
         for node, where in nodes(ast.Name):
-            if hasattr(builtins, node.id):
+            if node.id in HELD_NAMES:
                 self.assertIn(node.id, BUILTINS, where)
                 self.assertIsInstance(node.ctx, ast.Load, where)
         for name, where in bound_names():
             if not name.startswith("__"):
-                self.assertFalse(hasattr(builtins, name), where)
+                self.assertNotIn(name, HELD_NAMES, where)
+
+    def test_what_is_sorted_and_compared_while_classes_have_an_order(self):
+        for node, where in nodes(ast.Call):
+            name = node.func.id if isinstance(node.func, ast.Name) else getattr(node.func, "attr", None)
+            if name == "sorted":
+                self.assertIsInstance(node.args[0], ast.Call, where)
+                self.assertEqual(node.args[0].func.id, "set", where)
+            if name in ("min", "max"):
+                self.assertTrue(len(node.args) == 2 and any(isinstance(arg, ast.Constant) for arg in node.args), where)
+            if name in ("any", "all", "sum", "sorted", "min", "max"):
+                self.assertNotIsInstance(node.args[0], ast.GeneratorExp, where)
+            self.assertNotIn(name, ["sort", "reversed"], where)
+
+    def test_where_sets_stand(self):
+        held = [(node.args[0], node.func.id) for node, _ in nodes(ast.Call)
+                if isinstance(node.func, ast.Name) and node.func.id in ("sorted", "len")]
+        for node, where in nodes(ast.Call, ast.SetComp, ast.Set):
+            if not isinstance(node, ast.Call) or isinstance(node.func, ast.Name) and node.func.id == "set":
+                self.assertTrue(any(node is other for other, _ in held), where)
+
+    def test_names_are_not_those_of_classes_and_imports_of_their_file(self):
+        for path, tree in TREES.items():
+            held = [alias.name for node in tree.body if isinstance(node, ast.ImportFrom) for alias in node.names]
+            held += [node.name for node in tree.body if isinstance(node, ast.ClassDef)]
+            for node in ast.walk(tree):
+                if isinstance(node, ast.Name) and not isinstance(node.ctx, ast.Load):
+                    self.assertNotIn(node.id, held, f"{path.name}:{node.lineno}")
+                if isinstance(node, ast.arg):
+                    self.assertNotIn(node.arg, held, f"{path.name}:{node.lineno}")
+
+    def test_generators_are_iterated_at_once(self):
+        names = {node.name for node, _ in nodes(ast.FunctionDef) if any(isinstance(part, (ast.Yield, ast.YieldFrom))
+                                                                       for part in ast.walk(node))}
+        own = [node.name for node, _ in nodes(ast.FunctionDef)]
+        allowed = []
+        for node, _ in nodes(ast.For, ast.comprehension, ast.Call):
+            allowed += node.args[:1] if isinstance(node, ast.Call) else [node.iter]
+        for name in names:
+            self.assertEqual(own.count(name), 1)
+        for node, where in nodes(ast.Call):
+            if isinstance(node.func, ast.Name) and node.func.id in names:
+                self.assertTrue(any(node is other for other in allowed), where)
 
     def test_methods_that_are_called(self):
         own = {node.name for node, _ in nodes(ast.FunctionDef)}
