@@ -5,13 +5,21 @@ import unittest
 from pathlib import Path
 
 from seenshares.errors import BadProgram, BadShare
+from seenshares.knots import knot_of, knots
+from seenshares.papers import paper, paper_fault
+from seenshares.polygons import polygon, sides
 from seenshares.programs import Place, Program
+from seenshares.rings import as_run, ring_fault
 from seenshares.runs import observe
 from seenshares.samplers import Sampler
 from seenshares.shares import Share
 from seenshares.states import first_states, reach, steps
 
 README = Path(__file__).parent.parent / "README.md"
+
+# The program and the sampler of the examples from polygons on.
+PROGRAM = Program([Place("a"), Place("b", 1, 2)], {"a": ("b",), "b": ("a",)})
+SAMPLER = Sampler(2)
 
 
 class SharesTest(unittest.TestCase):
@@ -65,6 +73,55 @@ class StatesTest(unittest.TestCase):
         told = [first_states(web, Sampler(3)), steps(web, Sampler(3), ("a", 1, 2, True, False)),
                 reach(web, Sampler(3))]
         self.assertEqual(repr(told), "[[(('a', 1, 0, True, False), True)], [(('b', 1, 0, True, True), False)], 6]")
+
+
+class KnotsTest(unittest.TestCase):
+
+    def test_knots_and_knot_of(self):
+        web = Program([Place("a"), Place("b")], {"a": ("b",), "b": ("b",)})
+        told = [knots(web, Sampler(1)), knot_of(web, Sampler(1), ("a", 1, 0, True, False))]
+        self.assertEqual(repr(told), "[[[('b', 1, 0, True, False)]], None]")
+
+
+class PolygonsTest(unittest.TestCase):
+
+    def test_six_states_and_one_knot(self):
+        self.assertEqual(reach(PROGRAM, SAMPLER), 6)
+        self.assertEqual(len(knots(PROGRAM, SAMPLER)), 1)
+
+    def test_the_corners(self):
+        corners = polygon(PROGRAM, SAMPLER, ("a",), 0)
+        self.assertEqual([str(part) for pair in corners for part in pair], ["1/3", "1/3", "1/2", "0", "1/2", "1"])
+
+    def test_the_sides(self):
+        rows = [(a, b, str(level)) for a, b, level in sides(polygon(PROGRAM, SAMPLER, ("a",), 0))]
+        self.assertEqual(rows, [(-2, -1, "-1"), (1, 0, "1/2"), (-4, 1, "-1")])
+
+
+class RingsTest(unittest.TestCase):
+
+    def test_the_run_of_a_road(self):
+        road = [("a", 1, 0, True, False), ("b", 1, 1, True, False), ("b", 2, 0, True, False)]
+        self.assertEqual(as_run(PROGRAM, SAMPLER, road), (0, [("a", 1), ("b", 2)], [0, 0]))
+
+    def test_a_ring_and_a_list_that_is_none(self):
+        states = [("a", 1, 1, True, False), ("b", 1, 0, True, False)]
+        self.assertIsNone(ring_fault(PROGRAM, SAMPLER, ("a",), states, (Share(1, 2), 0)))
+        states = [("a", 1, 1, True, False), ("b", 2, 0, True, False)]
+        self.assertEqual(ring_fault(PROGRAM, SAMPLER, ("a",), states, (Share(1, 2), 0)), ("state", 1))
+
+
+class PapersTest(unittest.TestCase):
+
+    def test_a_level(self):
+        self.assertEqual(str(paper(PROGRAM, SAMPLER, ("a",), 0, -2, -1)[0]), "-1")
+
+    def test_faults(self):
+        prices = {("a", 1, 0, True, False): 3, ("b", 1, 1, True, False): 2, ("b", 2, 0, True, False): 1,
+                  ("a", 1, 1, True, False): 2, ("b", 1, 0, True, False): 1, ("b", 2, 1, True, False): 0}
+        self.assertIsNone(paper_fault(PROGRAM, SAMPLER, ("a",), 0, -2, -1, -1, prices))
+        self.assertEqual(paper_fault(PROGRAM, SAMPLER, ("a",), 0, -2, -1, -2, prices),
+                         ("step", ("a", 1, 0, True, False), ("b", 1, 1, True, False)))
 
 
 class ReadmeTest(unittest.TestCase):

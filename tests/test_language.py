@@ -22,6 +22,10 @@ HOMES = {
     "samplers": {"Sampler": ["__init__", "__eq__", "with_values"]},
     "runs": {"observe": [], "Record": ["__init__"], "times_of": [], "seen_of": []},
     "states": {"first_states": [], "steps": [], "reached": [], "reach": []},
+    "knots": {"knots": [], "knot_of": []},
+    "polygons": {"polygon": [], "corners": [], "inside": [], "sides": []},
+    "rings": {"ring": [], "ring_fault": [], "lead": [], "as_run": []},
+    "papers": {"paper": [], "paper_fault": []},
 }
 
 LIBRARY = {
