@@ -5,7 +5,7 @@ from seenshares.knots import counts_of_step, knot_arcs, pick_knot
 from seenshares.polygons import is_same, ring_pair, rings_at_corners
 from seenshares.runs import MOST_RUN_TICKS, check_focus
 from seenshares.shares import is_number
-from seenshares.states import check_state, find_web, first_states, is_state, steps
+from seenshares.states import check_state, find_web, first_states, is_state, pairs_behind
 
 
 def ring(program, sampler, focus, knot, corner):
@@ -83,18 +83,19 @@ def is_road(program, sampler, states):
     for state in states:
         if state not in [after for after, _ in pairs]:
             return False
-        pairs = steps(program, sampler, state)
+        pairs = pairs_behind(program, sampler, state)
     return True
 
 
 def stays_of(road):
     """The stays of a road."""
     stays = []
-    for at, state in enumerate(road):
-        if at == 0 or state[1] == 1:
-            stays.append((state[0], 1))
+    for name, spent, _, _, _ in road:
+        # Each start state is the first tick of a stay, too.
+        if spent == 1:
+            stays.append((name, spent))
         else:
-            stays[-1] = (state[0], state[1])
+            stays[-1] = (name, spent)
     return stays
 
 

@@ -89,7 +89,8 @@ class KnotOfTest(unittest.TestCase):
 
     def test_what_is_no_state(self):
         for thing in others() + [("b", 1, True, True, False), ("b", True, 0, True, False), ("b", 1, 0, 1, False),
-                                 ("b", 1, 0, True, 0), ("b", 1, 0, True, True), ("b", 1, 0, True), ("b", 2, 0, True, False)]:
+                                 ("b", 1, 0, True, 0), ("b", 1, 0, True, True), ("b", 1, 0, True),
+                                 ("b", 2, 0, True, False)]:
             self.assertEqual(error_of(NoState, knot_of, TWO_KNOTS, Sampler(2), thing), {})
 
     def test_no_state_comes_ahead_of_too_many(self):

@@ -19,7 +19,8 @@ EVEN = Sampler(2)
 PRICES = {("a", 1, 0, True, False): 3, ("b", 1, 1, True, False): 2, ("b", 2, 0, True, False): 1,
           ("a", 1, 1, True, False): 2, ("b", 1, 0, True, False): 1, ("b", 2, 1, True, False): 0}
 STATES = sorted(PRICES)
-DIRECTIONS = [(1, 0), (0, 1), (-1, 0), (0, -1), (1, 1), (-2, 3), (7, -4), (-5, -6), (12, 12), (10 ** 29 + 1, -(10 ** 29) + 3)]
+DIRECTIONS = [(1, 0), (0, 1), (-1, 0), (0, -1), (1, 1), (-2, 3), (7, -4), (-5, -6), (12, 12),
+              (10 ** 29 + 1, 3 - 10 ** 29)]
 
 
 def fraction(number):

@@ -5,7 +5,7 @@ import unittest
 from fractions import Fraction
 from math import gcd
 
-from seenshares.errors import NoFocus, NoKnot, TooMany
+from seenshares.errors import NoCorner, NoFocus, NoKnot, TooMany
 from seenshares.papers import paper, paper_fault
 from seenshares.polygons import corners, inside, polygon, sides
 from seenshares.rings import ring, ring_fault
@@ -13,8 +13,8 @@ from seenshares.samplers import Sampler
 from seenshares.shares import Share
 from tests.cases import FULL, LARGE, OVER, all_runs, error_of, program_of, road_by_words, show, woven
 from tests.objects import others
-from tests.webs import (NO_KNOT, TWO_KNOTS, corners_by_words, focuses, fractions_of, knots_by_words, pair_by_words,
-                        ringed_cases, turn)
+from tests.webs import (NO_KNOT, RIMS, TWO_KNOTS, corners_by_words, focuses, fractions_of, knots_by_words,
+                        pair_by_words, ringed_cases, turn)
 
 TWO = program_of("a 1 1 open b, b 1 2 open a")
 BIG = 10 ** 99
@@ -82,6 +82,15 @@ class PolygonTest(unittest.TestCase):
             for at in range(len(told)):
                 if len(told) > 2:
                     self.assertGreater(turn(told[at - 2], told[at - 1], told[at]), 0)
+
+    def test_rings_on_the_rim_between_two_corners_are_no_corners(self):
+        rows = [(RIMS[0], ["2/3 1", "3/4 0", "1 0", "1 1"], (Share(6, 7), 0)),
+                (RIMS[1], ["0 0", "1 0", "5/6 1", "2/3 1"], (Share(3, 4), 1))]
+        for program, right, pair in rows:
+            told = polygon(program, Sampler(2), program.names[1:], 0)
+            self.assertEqual(texts(told), right)
+            self.assertTrue(inside(told, pair))
+            self.assertIs(error_of(NoCorner, ring, program, Sampler(2), program.names[1:], 0, pair)["corner"], pair)
 
     def test_large_webs_by_rings_and_papers(self):
         for program, sampler in [FULL, (woven("open", 5, 5, 5, 5), Sampler(8, 7)),

@@ -2,6 +2,7 @@
 
 from fractions import Fraction
 
+from seenshares.samplers import Sampler
 from seenshares.states import reached, steps
 from tests.cases import CASES, program_of
 
@@ -9,6 +10,9 @@ from tests.cases import CASES, program_of
 NO_KNOT = program_of("a 1 2 open b, b 1 2 closed")
 TWO_KNOTS = program_of("a 1 1 open b c, b 1 1 open b, c 1 2 closed c")
 THREE_KNOTS = program_of("z 1 2 open z y x, y 1 1 closed y, x 2 2 open w, w 1 1 closed x")
+# Programs whose polygons, for the sampler with period 2, have rings on the rim between two corners.
+RIMS = [program_of("a 1 1 closed d c, b 3 3 closed c a, c 2 2 open d a c, d 3 3 closed b d c a"),
+        program_of("a 1 2 closed a c b, b 1 3 closed a c b, c 3 4 open a")]
 MOST_ROADS = 4000
 
 
@@ -89,8 +93,8 @@ def focuses(program):
 
 def ringed_cases():
     """For the small cases (program, sampler, web, rings without a state twice)."""
-    for program, sampler in CASES + [(program, sampler) for program in (NO_KNOT, TWO_KNOTS, THREE_KNOTS)
-                                     for _, sampler in CASES[:6]]:
+    knotted = [(program, sampler) for program in (NO_KNOT, TWO_KNOTS, THREE_KNOTS) for _, sampler in CASES[:6]]
+    for program, sampler in CASES + knotted + [(program, Sampler(2)) for program in RIMS]:
         web = web_of(program, sampler)
         rings = rings_without_twins(web)
         if rings is not None:
