@@ -16,17 +16,15 @@ def polygon(program, sampler, focus, knot):
     """The corners of the polygon of a knot, counterclockwise from the least one."""
     check_focus(focus, program.names)
     ways = find_web(program, sampler)
-    held = pick_knot(ways, knot)
-    return tuple([pair for pair, _ in rings_at_corners(knot_arcs(held, ways, focus, sampler.period))])
+    return polygon_of(pick_knot(ways, knot), ways, focus, sampler.period)
 
 
 def corners(program, sampler, focus):
     """The different corners of the polygons of all knots, in ascending order."""
     check_focus(focus, program.names)
-    ways = find_web(program, sampler)
     found = []
-    for held in split_web(ways):
-        for pair, _ in rings_at_corners(knot_arcs(held, ways, focus, sampler.period)):
+    for shape in all_polygons(program, sampler, focus):
+        for pair in shape:
             found = with_pair(found, pair)
     return found
 
@@ -44,6 +42,17 @@ def sides(polygon):
         return
     for at, corner in enumerate(polygon):
         yield side_between(corner, polygon[(at + 1) % len(polygon)])
+
+
+def all_polygons(program, sampler, focus):
+    """The polygons of all knots, in the order of the knots."""
+    ways = find_web(program, sampler)
+    return [polygon_of(held, ways, focus, sampler.period) for held in split_web(ways)]
+
+
+def polygon_of(held, ways, focus, period):
+    """The polygon of a knot with these states."""
+    return tuple([pair for pair, _ in rings_at_corners(knot_arcs(held, ways, focus, period))])
 
 
 def is_between(polygon, pair, part):

@@ -70,7 +70,7 @@ def as_run(program, sampler, states):
         raise NoTicks()
     if not is_road(program, sampler, states):
         raise NoState()
-    return states[0][2], stays_of(states), looks_of(states, sampler)
+    return run_of(states, sampler)
 
 
 def is_road(program, sampler, states):
@@ -85,6 +85,11 @@ def is_road(program, sampler, states):
             return False
         pairs = pairs_behind(program, sampler, state)
     return True
+
+
+def run_of(road, sampler):
+    """The run (phase, stays, looks) of a list of states that is known to be a road."""
+    return road[0][2], stays_of(road), looks_of(road, sampler)
 
 
 def stays_of(road):

@@ -129,3 +129,21 @@ def parts(number):
     if isinstance(number, Share):
         return number.top, number.bottom
     return number, 1
+
+
+def greatest(numbers):
+    """The greatest of some shares or integers, or None if there are none."""
+    found = None
+    for number in numbers:
+        if found is None or number > found:
+            found = number
+    return found
+
+
+def smallest(numbers):
+    """The smallest of some shares or integers, or None if there are none."""
+    found = None
+    for number in numbers:
+        if found is None or number < found:
+            found = number
+    return found

@@ -89,6 +89,13 @@ def all_runs(program, sampler, ticks):
                 yield phase, stays, looks
 
 
+def short_runs(program, sampler, most):
+    """All runs of at most so many ticks, each with the five attributes of its record, in ascending order of ticks."""
+    for ticks in range(1, most + 1):
+        for run in all_runs(program, sampler, ticks):
+            yield run, record_by_words(program, sampler, *run)
+
+
 def tick_rows(stays):
     """For each tick of the run (name, spent)."""
     return [(name, spent) for name, ticks in stays for spent in range(1, ticks + 1)]

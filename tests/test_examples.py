@@ -4,7 +4,9 @@ import doctest
 import unittest
 from pathlib import Path
 
+from seenshares.bounds import hidden, over, seen_range, under
 from seenshares.errors import BadProgram, BadShare
+from seenshares.finite import certificate, excess
 from seenshares.knots import knot_of, knots
 from seenshares.papers import paper, paper_fault
 from seenshares.polygons import polygon, sides
@@ -14,6 +16,7 @@ from seenshares.runs import observe
 from seenshares.samplers import Sampler
 from seenshares.shares import Share
 from seenshares.states import first_states, reach, steps
+from seenshares.told import can_be, sure_places, true_times, witness
 
 README = Path(__file__).parent.parent / "README.md"
 
@@ -122,6 +125,45 @@ class PapersTest(unittest.TestCase):
         self.assertIsNone(paper_fault(PROGRAM, SAMPLER, ("a",), 0, -2, -1, -1, prices))
         self.assertEqual(paper_fault(PROGRAM, SAMPLER, ("a",), 0, -2, -1, -2, prices),
                          ("step", ("a", 1, 0, True, False), ("b", 1, 1, True, False)))
+
+
+class BoundsTest(unittest.TestCase):
+
+    def test_hidden_over_and_under(self):
+        self.assertEqual([str(call(PROGRAM, SAMPLER, ("a",))) for call in (hidden, over, under)], ["1/2"] * 3)
+
+    def test_a_range(self):
+        rows = seen_range(PROGRAM, SAMPLER, ("a",), Share(2, 5))
+        self.assertEqual([len(rows), str(rows[0][0]), str(rows[0][1])], [1, "1/5", "3/5"])
+
+
+class FiniteTest(unittest.TestCase):
+
+    def test_excesses(self):
+        told = [excess(PROGRAM, SAMPLER, ("a", "b"), "over"), excess(PROGRAM, SAMPLER, ("a", "b"), "under"),
+                excess(PROGRAM, SAMPLER, ("a",), "over")]
+        self.assertEqual(told, [("most", 1), ("most", 0), ("endless",)])
+
+    def test_a_certificate(self):
+        rows = certificate(PROGRAM, SAMPLER, ("a", "b"), "over")
+        self.assertEqual([rows[("a", 1, 0, True, False)], rows[("a", 1, 1, True, False)]], [0, 1])
+
+
+class ToldTest(unittest.TestCase):
+
+    def test_true_times(self):
+        told = [true_times(PROGRAM, SAMPLER, ("b",), ["a", "a"]),
+                true_times(PROGRAM, SAMPLER, ("a",), ["a", "b"], ticks=3)]
+        self.assertEqual(told, [(1, 2), (1, 1)])
+
+    def test_a_witness(self):
+        self.assertEqual(witness(PROGRAM, SAMPLER, ("b",), ["a", "a"], 2),
+                         (0, [("a", 1), ("b", 1), ("a", 1), ("b", 1)], [0, 0]))
+
+    def test_rows_that_can_be_and_sure_places(self):
+        told = [can_be(PROGRAM, SAMPLER, ["b"]), sure_places(PROGRAM, SAMPLER, ["b"]),
+                sure_places(PROGRAM, SAMPLER, ["a"])]
+        self.assertEqual(told, [False, None, ["a"]])
 
 
 class ReadmeTest(unittest.TestCase):

@@ -26,6 +26,9 @@ HOMES = {
     "polygons": {"polygon": [], "corners": [], "inside": [], "sides": []},
     "rings": {"ring": [], "ring_fault": [], "lead": [], "as_run": []},
     "papers": {"paper": [], "paper_fault": []},
+    "bounds": {"hidden": [], "over": [], "under": [], "seen_range": [], "true_range": [], "surest": []},
+    "finite": {"excess": [], "worst": [], "certificate": [], "certificate_fault": []},
+    "told": {"can_be": [], "true_times": [], "sure_places": [], "witness": []},
 }
 
 LIBRARY = {
