@@ -5,17 +5,21 @@ import unittest
 from pathlib import Path
 
 from seenshares.bounds import hidden, over, seen_range, under
-from seenshares.errors import BadProgram, BadShare
+from seenshares.counts import Counts
+from seenshares.errors import BadProgram, BadShare, BadText, NoCounts
 from seenshares.finite import certificate, excess
 from seenshares.knots import knot_of, knots
+from seenshares.live import Profile
 from seenshares.papers import paper, paper_fault
 from seenshares.polygons import polygon, sides
 from seenshares.programs import Place, Program
 from seenshares.rings import as_run, ring_fault
 from seenshares.runs import observe
 from seenshares.samplers import Sampler
+from seenshares.settings import lets, periods_within
 from seenshares.shares import Share
 from seenshares.states import first_states, reach, steps
+from seenshares.texts import read, read_run, write, write_run
 from seenshares.told import can_be, sure_places, true_times, witness
 
 README = Path(__file__).parent.parent / "README.md"
@@ -164,6 +168,60 @@ class ToldTest(unittest.TestCase):
         told = [can_be(PROGRAM, SAMPLER, ["b"]), sure_places(PROGRAM, SAMPLER, ["b"]),
                 sure_places(PROGRAM, SAMPLER, ["a"])]
         self.assertEqual(told, [False, None, ["a"]])
+
+
+class SettingsTest(unittest.TestCase):
+
+    def test_periods(self):
+        self.assertEqual(periods_within(PROGRAM, SAMPLER, ("a",), "hidden", Share(1, 3)), [1, 3])
+
+    def test_sets(self):
+        shut = Program([Place("a"), Place("b", let=False)], {"a": ("b",), "b": ("a",)})
+        told = [lets(shut, Sampler(2), ("b",), "hidden", 0), lets(shut, Sampler(3), ("b",), "hidden", 0),
+                lets(shut, Sampler(3), ("b",), "hidden", 1)]
+        self.assertEqual(told, [[], [("b",)], [()]])
+
+
+class CountsTest(unittest.TestCase):
+
+    def test_a_product(self):
+        counts = 2 * Counts("web", "db", "web")
+        told = [counts["web"], counts["log"], counts.present(), counts.total(), str(counts.share(("db",)))]
+        self.assertEqual(told, [4, 0, ["db", "web"], 6, "1/3"])
+
+    def test_a_difference_below_0(self):
+        with self.assertRaises(NoCounts) as caught:
+            Counts("db") - Counts("web", "db", "db")
+        self.assertEqual(vars(caught.exception), {"name": "db"})
+
+
+class LiveTest(unittest.TestCase):
+
+    def test_two_ticks(self):
+        web = Program([Place("a", 1, 2), Place("b", 1, 2, let=False)], {"a": ("b",), "b": ("a",)})
+        live = Profile(web, Sampler(2, 1))
+        first = live(("a", False))
+        second = live(("b", True))
+        told = [first, second, live.choices(), live.record().waiting, live.run()]
+        self.assertEqual(told, [None, None, [(None, False), (None, True), ("a", False), ("a", True)], True,
+                                (0, [("a", 1), ("b", 1)], [1])])
+
+
+class TextsTest(unittest.TestCase):
+
+    def test_a_text(self):
+        web = Program([Place("web", 1, 3), Place("db", 2, let=False)], {"web": ("db", "web"), "db": ()})
+        self.assertEqual(write(web, Sampler(5, 1, phase=None)), "program start web\n  web open 1 3 to db web\n"
+                         "  db closed 2 2 end\nsampler period 5 jitter 1 phase any")
+
+    def test_a_wrong_text(self):
+        with self.assertRaises(BadText) as caught:
+            read("program start a\n  a open 1 1 end\n  a open 1 1 end")
+        self.assertEqual(vars(caught.exception), {"line": 3})
+
+    def test_texts_of_runs(self):
+        told = [write_run(1, [("a", 2), ("b", 1)], [None, 0]), read_run("run phase 0\n  a 1\nlooks 0")]
+        self.assertEqual(told, ["run phase 1\n  a 2\n  b 1\nlooks - 0", (0, [("a", 1)], [0])])
 
 
 class ReadmeTest(unittest.TestCase):

@@ -12,7 +12,7 @@ PACKAGE = Path(__file__).parent.parent / "seenshares"
 FILES = sorted(PACKAGE.rglob("*.py"))
 TREES = {path: ast.parse(path.read_text()) for path in FILES}
 
-# What the interface lists so far: for each module its functions, and its classes with their methods and operators.
+# What the interface lists: for each module its functions, and its classes with their methods and operators.
 HOMES = {
     "shares": {"Share": ["__init__", "__add__", "__radd__", "__sub__", "__rsub__", "__mul__", "__rmul__",
                          "__floordiv__", "__rfloordiv__", "__eq__", "__ne__", "__lt__", "__le__", "__gt__",
@@ -29,6 +29,13 @@ HOMES = {
     "bounds": {"hidden": [], "over": [], "under": [], "seen_range": [], "true_range": [], "surest": []},
     "finite": {"excess": [], "worst": [], "certificate": [], "certificate_fault": []},
     "told": {"can_be": [], "true_times": [], "sure_places": [], "witness": []},
+    "settings": {"measure": [], "jitters_within": [], "periods_within": [], "lets": []},
+    "counts": {"Counts": ["__init__", "__getitem__", "__setitem__", "__iadd__", "__add__", "__sub__", "__mul__",
+                          "__rmul__", "__le__", "__eq__", "__contains__", "__len__", "present", "total", "share"],
+               "counts_of": []},
+    "live": {"Profile": ["__init__", "__call__", "__enter__", "__exit__", "choices", "path", "record", "run", "watch",
+                         "trial"]},
+    "texts": {"write": [], "read": [], "write_run": [], "read_run": []},
 }
 
 LIBRARY = {
