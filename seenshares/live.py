@@ -88,7 +88,8 @@ class Profile:
         waits = self._state is not None and self._state[4]
         name, spent = (move, 1) if move is not None else (self._state[0], self._state[1] + 1)
         place = self._program[name]
-        self._state, noted = pair_at(place, spent, self._spot(), self._has_come() or due, waits or due)
+        state, noted = pair_at(place, spent, self._spot(), self._has_come() or due, waits or due)
+        self._state = state
         self._made = self._made + [choice]
         self.ticks = self.ticks + 1
         return name if noted else None
@@ -118,9 +119,7 @@ class Profile:
 
 def is_one_of_choices(choice, choices):
     """Tell whether an object of any kind is one of the choices, and not only equal to one."""
-    if not isinstance(choice, tuple) or len(choice) != 2 or not is_flag(choice[1]):
-        return False
-    return (choice[0] is None or isinstance(choice[0], str)) and choice in choices
+    return isinstance(choice, tuple) and len(choice) == 2 and is_flag(choice[1]) and choice in choices
 
 
 def stays_made(made):

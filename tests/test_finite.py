@@ -206,6 +206,10 @@ class WorstTest(unittest.TestCase):
             self.assertEqual(self.observed(LINE, Sampler(1), told).ticks, ticks)
         for least in (51, 60):
             self.assertIsNone(worst(LINE, Sampler(1), ("b",), "under", least))
+        later = program_of("a 3 3 open b, b 1 1 closed a, c 1 1 open a", start="c")
+        self.assertEqual(self.observed(later, Sampler(1), worst(later, Sampler(1), ("b",), "under", 49)).ticks, 197)
+        # The run of 201 ticks that has this excess is too long.
+        self.assertIsNone(worst(later, Sampler(1), ("b",), "under", 50))
 
     def test_a_run_that_was_told_may_be_changed(self):
         first = worst(TWO, EVEN, ("a",), "over", 0)

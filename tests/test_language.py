@@ -207,6 +207,31 @@ class LanguageTest(unittest.TestCase):
             if isinstance(node.func, ast.Name) and node.func.id in names:
                 self.assertTrue(any(node is other for other in allowed), where)
 
+    def test_nothing_is_assigned_in_place_while_a_class_adds_in_place(self):
+        for node, where in nodes(ast.AugAssign):
+            self.fail(where)
+
+    def test_what_stands_behind_a_star(self):
+        for node, where in nodes(ast.Call):
+            for arg in node.args:
+                if isinstance(arg, ast.Starred):
+                    self.assertIsInstance(arg.value, (ast.Name, ast.Attribute), where)
+
+    def test_the_rows_of_exit(self):
+        for node, where in nodes(ast.FunctionDef):
+            if node.name == "__exit__":
+                for row in node.body:
+                    self.assertIsInstance(row, ast.Assign, where)
+                    self.assertIsInstance(row.value, ast.Attribute, where)
+                self.assertIn([arg.arg for arg in node.args.args], [["self", "kind", "value", "trace"], ["self"]])
+
+    def test_no_name_is_a_method_and_an_attribute(self):
+        for node, where in nodes(ast.ClassDef):
+            methods = [part.name for part in node.body if isinstance(part, ast.FunctionDef)]
+            stored = [part.attr for part in ast.walk(node) if isinstance(part, ast.Attribute)
+                      and isinstance(part.ctx, ast.Store)]
+            self.assertEqual([name for name in stored if name in methods], [], where)
+
     def test_methods_that_are_called(self):
         own = {node.name for node, _ in nodes(ast.FunctionDef)}
         for node, where in nodes(ast.Call):

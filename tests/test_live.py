@@ -192,7 +192,8 @@ class TicksTest(unittest.TestCase):
 
     def test_a_look_that_has_not_come_due_is_none(self):
         self.assertEqual(made([("a", False)], sampler=Sampler(5, 4)).run(), (0, [("a", 1)], [None]))
-        self.assertEqual(made([("a", False), (None, False)], sampler=Sampler(3, phase=1)).run(), (1, [("a", 2)], [None]))
+        way = [("a", False), (None, False)]
+        self.assertEqual(made(way, sampler=Sampler(3, phase=1)).run(), (1, [("a", 2)], [None]))
 
     def test_a_record_does_not_change_when_the_profile_goes_on(self):
         profile = Profile(WEB, LATE)

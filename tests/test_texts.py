@@ -15,6 +15,9 @@ WEB = Program([Place("web", 1, 3), Place("db", 2, let=False)], {"web": ("db", "w
 TEXT = "program start web\n  web open 1 3 to db web\n  db closed 2 2 end\nsampler period 5 jitter 1 phase any"
 RUN = (1, [("a", 2), ("b", 1)], [None, 0])
 RUN_TEXT = "run phase 1\n  a 2\n  b 1\nlooks - 0"
+# Words that are put in the place of others.
+WORDS = ["", "any", "closed", "end", "open", "to", "a", "zz", "abcdefghi", "0", "7", "8", "9", "01", "-", "+1", "1.0",
+         "program", "sampler", "looks", "run"]
 # The longest of all texts.
 LONG_NAMES = ["abcdefg" + letter for letter in "uvwxyz"]
 LONG = program_of(",".join(f"{name} 1 6 closed {' '.join(LONG_NAMES)}" for name in LONG_NAMES)), Sampler(8)
@@ -103,8 +106,7 @@ def spoiled(text, signs):
             yield "\n".join(changed)
         words = lines[at].split(" ")
         for spot in range(len(words)):
-            for word in ["", "any", "closed", "end", "open", "to", "a", "zz", "abcdefghi", "0", "7", "8", "9", "01", "-",
-                         "+1", "1.0", "program", "sampler", "looks", "run"]:
+            for word in WORDS:
                 yield "\n".join(lines[:at] + [" ".join(words[:spot] + [word] + words[spot + 1:])] + lines[at + 1:])
             yield "\n".join(lines[:at] + [" ".join(words[:spot] + words[spot + 1:])] + lines[at + 1:])
             yield "\n".join(lines[:at] + [" ".join(words[:spot + 1] + words[spot:])] + lines[at + 1:])
@@ -127,8 +129,8 @@ class WriteTest(unittest.TestCase):
     def test_line_by_line(self):
         self.assertEqual(write(WEB, Sampler(5, 1, phase=None)), TEXT)
         self.assertEqual(write(*SIX).split("\n"), [
-            "program start a", "  a open 1 2 to b", "  b closed 6 6 to c d", "  c open 1 1 end", "  d open 2 3 to e f a",
-            "  e closed 4 5 to e", "  f open 1 1 end", "sampler period 8 jitter 7 phase 3"])
+            "program start a", "  a open 1 2 to b", "  b closed 6 6 to c d", "  c open 1 1 end",
+            "  d open 2 3 to e f a", "  e closed 4 5 to e", "  f open 1 1 end", "sampler period 8 jitter 7 phase 3"])
         self.assertEqual(write(program_of("b 1 1 closed, a 2 2 open b", start="a"), Sampler(1)),
                          "program start a\n  b closed 1 1 end\n  a open 2 2 to b\nsampler period 1 jitter 0 phase 0")
 
